@@ -1,0 +1,91 @@
+"""Check the package against the rules of LANGUAGE.md that can be counted or read off.
+
+It finds slips early; a package that it accepts can still break a rule.
+"""
+
+import ast
+import sys
+from pathlib import Path
+
+ROOT = Path(__file__).resolve().parent.parent
+PACKAGE = ROOT / "extralink"
+LIBRARY = {
+    "heapq": {"heappush", "heappop", "heapify", "heapreplace", "heappushpop"},
+    "math": {"gcd", "lcm", "isqrt", "comb", "perm", "factorial"},
+    "itertools": {"product", "combinations", "permutations", "chain", "accumulate", "pairwise", "islice", "zip_longest"},
+    "collections": {"defaultdict"},
+}
+BARRED = (ast.Global, ast.AsyncFunctionDef, ast.AsyncFor, ast.AsyncWith, ast.Await, ast.Div, ast.MatMult)
+
+
+def files():
+    return [path for path in sorted(PACKAGE.rglob("*")) if "__pycache__" not in path.parts]
+
+
+def check_rows(text):
+    """L10, L14 and L27: sizes and characters."""
+    rows = text.split("\n")
+    if len(rows) - 1 > 399:
+        yield 1, "L10: more than 399 lines"
+    for number, row in enumerate(rows, 1):
+        if len(row) > 120:
+            yield number, "L10: more than 120 characters"
+        if any(not " " <= char <= "~" for char in row):
+            yield number, "L14: a character that is not allowed"
+
+
+def imported(node):
+    if isinstance(node, ast.Import):
+        return "L16: import without from"
+    names = {alias.name for alias in node.names}
+    if node.level or "*" in names or any(alias.asname for alias in node.names if node.module in LIBRARY):
+        return "L2: form of an import"
+    if node.module in LIBRARY:
+        return None if names <= LIBRARY[node.module] else "L2: not in the list of the library"
+    if node.module == "__future__" and names == {"annotations"}:
+        return None
+    return None if node.module.startswith("extralink.") else "L2: import from outside"
+
+
+def check_node(node):
+    if isinstance(node, (ast.Import, ast.ImportFrom)):
+        return imported(node)
+    if isinstance(node, ast.FunctionDef) and node.end_lineno - node.lineno + 1 > 40:
+        return "L10: a function of more than 40 lines"
+    if isinstance(node, ast.Constant):
+        if isinstance(node.value, (float, complex)):
+            return "L7: a float"
+        if isinstance(node.value, str) and "%" in node.value:
+            return "L27: % in a string"
+    if isinstance(node, ast.ClassDef) and node.decorator_list:
+        return "L5: a decorator over a class"
+    if isinstance(node, BARRED):
+        return "L6, L7: " + node.__class__.__name__
+    return None
+
+
+def check_tree(tree):
+    for node in ast.walk(tree):
+        wrong = check_node(node)
+        if wrong:
+            yield getattr(node, "lineno", 0), wrong
+
+
+def check_file(path):
+    if path.is_dir():
+        return [] if (path / "__init__.py").exists() else [(0, "L14: no __init__.py")]
+    if path.suffix != ".py" or path.name != path.name.lower():
+        return [(0, "L1: the package holds .py files only")]
+    text = path.read_text(encoding="utf-8")
+    return list(check_rows(text)) + list(check_tree(ast.parse(text)))
+
+
+def main():
+    slips = [(path, number, wrong) for path in files() for number, wrong in check_file(path)]
+    for path, number, wrong in slips:
+        print(f"{path.relative_to(ROOT)}:{number}: {wrong}")
+    return 1 if slips else 0
+
+
+if __name__ == "__main__":
+    sys.exit(main())

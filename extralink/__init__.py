@@ -1,0 +1,1 @@
+"""Extralink: can an extra link ever slow all requests?"""
