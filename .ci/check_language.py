@@ -15,7 +15,7 @@ LIBRARY = {
     "itertools": {"product", "combinations", "permutations", "chain", "accumulate", "pairwise", "islice", "zip_longest"},
     "collections": {"defaultdict"},
 }
-BARRED = (ast.Global, ast.AsyncFunctionDef, ast.AsyncFor, ast.AsyncWith, ast.Await, ast.Div, ast.MatMult)
+BARRED = (ast.Global, ast.AsyncFunctionDef, ast.AsyncFor, ast.AsyncWith, ast.Await)
 
 
 def files():
@@ -60,7 +60,9 @@ def check_node(node):
     if isinstance(node, ast.ClassDef) and node.decorator_list:
         return "L5: a decorator over a class"
     if isinstance(node, BARRED):
-        return "L6, L7: " + node.__class__.__name__
+        return "L6: " + node.__class__.__name__
+    if isinstance(getattr(node, "op", None), (ast.Div, ast.MatMult)):
+        return "L7: an operator that is not allowed"
     return None
 
 

@@ -38,9 +38,8 @@ def run_here(folder):
 def run_folder(folder):
     """Run the tests of a folder in a new process; one that ends without counts has failed."""
     print(f"== {os.path.relpath(folder, ROOT)}", flush=True)
-    done = subprocess.run(
-        [sys.executable, "-B", __file__, str(folder)], cwd=ROOT, stdout=subprocess.PIPE, stderr=subprocess.STDOUT, text=True
-    )
+    command = [sys.executable, "-B", __file__, str(folder)]
+    done = subprocess.run(command, cwd=ROOT, stdout=subprocess.PIPE, stderr=subprocess.STDOUT, text=True)
     *rows, last = done.stdout.splitlines() or [""]
     print("\n".join(rows), flush=True)
     try:
