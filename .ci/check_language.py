@@ -4,6 +4,7 @@ It finds slips early; a package that it accepts can still break a rule.
 """
 
 import ast
+import builtins
 import sys
 from pathlib import Path
 
@@ -47,9 +48,35 @@ def imported(node):
     return None if node.module.startswith("extralink.") else "L2: import from outside"
 
 
+def named(node):
+    """The names that a node gives to something; a method may have any."""
+    if isinstance(node, ast.Name) and isinstance(node.ctx, ast.Store):
+        return [node.id]
+    if isinstance(node, ast.Module):
+        return [part.name for part in node.body if isinstance(part, (ast.FunctionDef, ast.ClassDef))]
+    return [node.arg] if isinstance(node, ast.arg) else []
+
+
+def check_objects(node):
+    """What the rules bar because the package has operators, == and indexes."""
+    if isinstance(node, ast.GeneratorExp):
+        return "L7: a generator expression beside classes with __eq__"
+    if isinstance(node, ast.AugAssign):
+        value = node.value.value if isinstance(node.value, ast.Constant) else None
+        return None if isinstance(value, int) else "L5: += of something else than an integer literal"
+    if isinstance(node, ast.Attribute) and node.attr == "sort":
+        return "L25: .sort beside classes with __eq__"
+    if isinstance(node, ast.ClassDef):
+        methods = {part.name for part in node.body if isinstance(part, ast.FunctionDef)}
+        return "L5: __getitem__ without __iter__" if {"__getitem__"} == methods & {"__getitem__", "__iter__"} else None
+    return None
+
+
 def check_node(node):
     if isinstance(node, (ast.Import, ast.ImportFrom)):
         return imported(node)
+    if any(hasattr(builtins, name) for name in named(node)):
+        return "L15: the name of a builtin"
     if isinstance(node, ast.FunctionDef) and node.end_lineno - node.lineno + 1 > 40:
         return "L10: a function of more than 40 lines"
     if isinstance(node, ast.Constant):
@@ -63,7 +90,7 @@ def check_node(node):
         return "L6: " + node.__class__.__name__
     if isinstance(getattr(node, "op", None), (ast.Div, ast.MatMult)):
         return "L7: an operator that is not allowed"
-    return None
+    return check_objects(node)
 
 
 def check_tree(tree):
