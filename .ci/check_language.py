@@ -98,6 +98,30 @@ def check_tree(tree):
         wrong = check_node(node)
         if wrong:
             yield getattr(node, "lineno", 0), wrong
+    yield from check_bindings(tree)
+
+
+def check_bindings(tree):
+    """L15: no parameter and no local variable has the name of a class or an import of its file."""
+    taken = {node.name for node in tree.body if isinstance(node, ast.ClassDef)}
+    for node in tree.body:
+        if isinstance(node, ast.ImportFrom):
+            taken.update(alias.asname or alias.name for alias in node.names)
+    for node in ast.walk(tree):
+        if not isinstance(node, ast.Module) and taken & set(named(node)):
+            yield node.lineno, "L15: the name of a class or an import"
+
+
+def check_properties(trees):
+    """L5: no property has the name of a method, in whichever class that stands."""
+    found = {True: set(), False: set()}
+    for tree in trees:
+        for node in ast.walk(tree):
+            for part in node.body if isinstance(node, ast.ClassDef) else []:
+                if isinstance(part, ast.FunctionDef):
+                    marks = {getattr(mark, "id", None) or mark.attr for mark in part.decorator_list}
+                    found[bool(marks & {"property", "setter"})].add(part.name)
+    return [f"L5: {name} is a property and a method" for name in sorted(found[True] & found[False])]
 
 
 def check_file(path):
@@ -111,6 +135,8 @@ def check_file(path):
 
 def main():
     slips = [(path, number, wrong) for path in files() for number, wrong in check_file(path)]
+    trees = [ast.parse(path.read_text(encoding="utf-8")) for path in files() if path.suffix == ".py"]
+    slips += [(PACKAGE, 0, wrong) for wrong in check_properties(trees)]
     for path, number, wrong in slips:
         print(f"{path.relative_to(ROOT)}:{number}: {wrong}")
     return 1 if slips else 0

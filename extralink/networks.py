@@ -132,6 +132,27 @@ def walks(network, first, last):
                 yield (name, *rest)
 
 
+def first_walk(network, first, last):
+    """Return the first tuple of links from one place to another that it leads to."""
+    return list(walks(network, first, last))[0]
+
+
+def stops(network, names, first):
+    """Return the places of some links that can be followed from the first place."""
+    return [first] + [network[name][1] for name in names]
+
+
+def connects(network, names, first, last):
+    """Return True if the links can be followed from the one place to the other one."""
+    places = stops(network, names, first)
+    return [network[name][0] for name in names] == places[:-1] and places[-1] == last
+
+
+def is_way(network, names):
+    """Return True if a tuple of strings is a way of the network."""
+    return all([name in network for name in names]) and connects(network, names, network.start, network.end)
+
+
 def ordered_places(table, start, end):
     """Return the start, the other places of a table of links in ascending order, and the end."""
     inner = [place for ends in table.values() for place in ends if place not in (start, end)]

@@ -1,6 +1,6 @@
 """Bridged pairs: two ways side by side with a bridge from the first to the second."""
 
-from extralink.networks import walks
+from extralink.networks import connects, first_walk, stops, walks
 
 
 def check_pair(network, pair):
@@ -23,24 +23,34 @@ def check_pair(network, pair):
 
 def find_pair(network):
     """Return a bridged pair of the network, or None if there is none."""
-    for first in network.places:
-        for last in network.places:
-            for middle in middles(network, first, last):
-                # What leads to the first place cannot lie behind it, nor what
-                # follows the last place before it, so any two walks will do.
-                lead = list(walks(network, network.start, first))[0]
-                rest = list(walks(network, last, network.end))[0]
-                return (lead, *middle, rest)
+    for one, two in rings(network):
+        for middle in crossings(network, one, two):
+            return framed(network, middle)
     return None
 
 
-def middles(network, first, last):
-    """Yield the five inner tuples of the bridged pairs between two places."""
-    found = list(walks(network, first, last))
-    for one in found:
-        for two in found:
-            if apart([stops(network, one, first), stops(network, two, first)]):
-                yield from crossings(network, one, two)
+def pair_over(network, name, tail, head):
+    """Return the bridged pair that a further link between two places of a network makes as its bridge.
+
+    The places must lie apart on two walks that share no place but their ends.
+    """
+    for one, two in rings(network):
+        cut = cut_at(network, one, tail)
+        mark = cut_at(network, two, head)
+        if cut is not None and mark is not None:
+            return framed(network, (one[:cut], one[cut:], two[:mark], two[mark:], (name,)))
+    return None
+
+
+def rings(network):
+    """Yield every two walks with the same ends that share no place between."""
+    for first in network.places:
+        for last in network.places:
+            found = list(walks(network, first, last))
+            for one in found:
+                for two in found:
+                    if apart([stops(network, one, first), stops(network, two, first)]):
+                        yield one, two
 
 
 def crossings(network, one, two):
@@ -56,15 +66,21 @@ def crossings(network, one, two):
                     yield (one[:cut], one[cut:], two[:mark], two[mark:], bridge)
 
 
-def connects(network, names, first, last):
-    """Return True if the links can be followed from the one place to the other one."""
-    places = stops(network, names, first)
-    return [network[name][0] for name in names] == places[:-1] and places[-1] == last
+def framed(network, middle):
+    """Return the bridged pair with these five tuples in the middle."""
+    # What leads to the first place cannot lie behind it, nor what follows the
+    # last place before it, so any two walks will do.
+    lead = first_walk(network, network.start, network[middle[0][0]][0])
+    rest = first_walk(network, network[middle[1][-1]][1], network.end)
+    return (lead, *middle, rest)
 
 
-def stops(network, names, first):
-    """Return the places of some links that can be followed from the first place."""
-    return [first] + [network[name][1] for name in names]
+def cut_at(network, names, place):
+    """Return how many links of a walk lead to a place between its ends, or None if it is not there."""
+    for at in range(1, len(names)):
+        if network[names[at]][0] == place:
+            return at
+    return None
 
 
 def apart(rows):

@@ -3,44 +3,9 @@
 import itertools
 import unittest
 
-from extralink.buildings import Building, building_of, chain, fork
+from extralink.buildings import Building, building_of, fork
 from extralink.networks import Network
-from tests.helper import ErrorCase, FOUR, networks, small_networks, triples
-
-PLACES = "pqruvw"
-
-
-def splits(many, least_parts=2):
-    """All rows of at least so many numbers from 1 on with the sum."""
-    if many == 0:
-        return [()] if least_parts <= 0 else []
-    return [(first, *rest) for first in range(1, many + 1) for rest in splits(many - first, least_parts - 1)]
-
-
-def plans(many, barred=None):
-    """All forms of buildings of so many links; the outermost form is not the barred one."""
-    if many == 1:
-        return ["link"]
-    found = []
-    for shape in ["chain", "fork"]:
-        for row in splits(many) if shape != barred else []:
-            found += [(shape, *parts) for parts in itertools.product(*[plans(size, shape) for size in row])]
-    return found
-
-
-class Maker:
-    """Builds forms with names and places taken from two rows."""
-
-    def __init__(self, names, places):
-        self.names, self.places = list(names), list(places)
-
-    def build(self, plan, start="s", end="t"):
-        if plan == "link":
-            return Building.link(self.names.pop(0), start, end)
-        if plan[0] == "fork":
-            return fork(*[self.build(part, start, end) for part in plan[1:]])
-        stops = [start, *[self.places.pop(0) for _ in plan[2:]], end]
-        return chain(*[self.build(part, *ends) for part, ends in zip(plan[1:], zip(stops, stops[1:]))])
+from tests.helper import FOUR, ErrorCase, Maker, PLACES, networks, plans, small_networks, triples
 
 
 class Buildings(ErrorCase):

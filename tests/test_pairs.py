@@ -6,15 +6,10 @@ import unittest
 from extralink.buildings import building_of
 from extralink.networks import Network
 from extralink.pairs import check_pair, find_pair
-from tests.helper import ErrorCase, FOUR, WRONG_NAMES, networks, small_networks, triples
+from tests.helper import ErrorCase, FOUR, WRONG_NAMES, networks, read, small_networks, triples
 
 PAIR = ((), ("a",), ("d",), ("b",), ("e",), ("c",), ())
 PARTS = ["lead", "cx", "xm", "cv", "vm", "xv", "rest"]
-
-
-def read(rows):
-    """A network from s to t of links that are written as a name, the tail and the head."""
-    return Network([(row[:-2], row[-2], row[-1]) for row in rows.split()], "s", "t")
 
 
 def pair_of(text):
